@@ -1,0 +1,1 @@
+"""Bothdoors: doors that count who goes through, but not which way."""
