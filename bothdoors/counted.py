@@ -1,7 +1,8 @@
 """What is possible by counts alone, and papers of what is not."""
 
 from bothdoors.errors import NoEnd
-from bothdoors.houses import leaving, met, parts
+from bothdoors.houses import leaving, parts
+from bothdoors.lots import lot_of, lot_sums, number_of, odd_ones, spares
 
 
 def paper_of(house, begin, counts, end):
@@ -11,15 +12,15 @@ def paper_of(house, begin, counts, end):
     below = [room for room in range(house[0]) if end[room] < 0]
     if below:
         return ("below", below[0])
-    odd = [room for room in range(house[0]) if _is_odd(house, begin, counts, end, room)]
+    odd = _odd_rooms(house, begin, counts, end)
     if odd:
         return ("odd", odd[0])
     empty = _empty_parts(house, begin, counts)
     if empty:
         return ("nobody", empty[0])
     # Lots that gained are enough: with as many folk as at first, what is beside a lot that lost gained the same.
-    spare, lot = _tightest(house, counts, [had - has for had, has in zip(begin, end)], [])
-    return ("lot", lot) if spare < 0 else None
+    sums = lot_sums(house, counts, [had - has for had, has in zip(begin, end)])
+    return ("lot", _first_least(house, sums)) if min(sums) < 0 else None
 
 
 def holds(house, begin, counts, end, paper):
@@ -33,7 +34,7 @@ def holds(house, begin, counts, end, paper):
     if kind == "below":
         return end[named[0]] < 0
     if kind == "odd":
-        return _is_odd(house, begin, counts, end, named[0])
+        return named[0] in _odd_rooms(house, begin, counts, end)
     if kind == "nobody":
         return named in _empty_parts(house, begin, counts)
     gain = sum([end[room] - begin[room] for room in named])
@@ -42,18 +43,20 @@ def holds(house, begin, counts, end, paper):
 
 def shut(house, begin, counts):
     """The first paper that no end is possible; None where one is."""
-    empty = _empty_parts(house, begin, counts)
-    if empty:
-        return ("nobody", empty[0])
-    spare, lot = _most(house, begin, counts, [])
-    return ("odds", lot) if spare < 0 else None
+    return _shut_by(house, begin, counts, spares(house, begin, counts))
 
 
 def greatest(house, begin, counts, lot):
     """The greatest number that the lot can have at the end, and a lot about it that shows it."""
-    if shut(house, begin, counts) is not None:
+    sums = spares(house, begin, counts)
+    if _shut_by(house, begin, counts, sums) is not None:
         raise NoEnd("no end is possible by these counts")
-    return _most(house, begin, counts, lot)
+    asked = number_of(house[0], lot)
+    about = [number for number in range(len(sums)) if number & asked == asked]
+    shown = min(about, key=lambda lot_number: sums[lot_number])
+    # The asked rooms keep nothing from themselves: their own odd ones are among what they have.
+    own = sum([odd for room, odd in enumerate(odd_ones(house, begin, counts)) if room in lot])
+    return sums[shown] + own, lot_of(house[0], shown)
 
 
 def least(house, begin, counts, lot):
@@ -63,9 +66,9 @@ def least(house, begin, counts, lot):
     return sum(begin) - number, shown
 
 
-def _is_odd(house, begin, counts, end, room):
-    """Whether what the room had, has and met together is odd."""
-    return (begin[room] + end[room] + met(house, counts)[room]) % 2 == 1
+def _odd_rooms(house, begin, counts, end):
+    """The rooms of which what they had, have and met together is odd."""
+    return [room for room, odd in enumerate(odd_ones(house, begin, counts)) if (end[room] + odd) % 2 == 1]
 
 
 def _empty_parts(house, begin, counts):
@@ -73,26 +76,14 @@ def _empty_parts(house, begin, counts):
     return [part for part in parts(house, counts) if len(part) > 1 and not any([begin[room] for room in part])]
 
 
-def _most(house, begin, counts, lot):
-    """The most that the lot can have, and a lot that shows it; of no rooms, below 0 where folk are too few for odds."""
-    passed = met(house, counts)
-    # A room that had and met an odd number ends with an odd one: it keeps at least one of its folk to itself.
-    kept = [0 if room in lot else (begin[room] + passed[room]) % 2 for room in range(house[0])]
-    return _tightest(house, counts, [had - own for had, own in zip(begin, kept)], lot)
+def _shut_by(house, begin, counts, sums):
+    """The first paper that no end is possible, where these are what each lot can spare; None where one is."""
+    empty = _empty_parts(house, begin, counts)
+    if empty:
+        return ("nobody", empty[0])
+    return ("odds", _first_least(house, sums)) if min(sums) < 0 else None
 
 
-def _tightest(house, counts, weights, lot):
-    """The least, over lots about this one, of their rooms' weights and what leaves them; and a lot that has it."""
-    lots = _lots_about(house[0], lot)
-    sums = [sum([weights[room] for room in about]) + leaving(house, counts, about) for about in lots]
-    least_sum = min(sums)
-    return least_sum, lots[sums.index(least_sum)]
-
-
-def _lots_about(rooms, lot):
-    """All lots, in a house of so many rooms, that have all rooms of this one."""
-    lots = [[]]
-    for room in range(rooms):
-        wider = [narrow + [room] for narrow in lots]
-        lots = wider if room in lot else lots + wider
-    return lots
+def _first_least(house, sums):
+    """The lot that has the least of the sums."""
+    return lot_of(house[0], sums.index(min(sums)))
