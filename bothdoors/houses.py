@@ -25,6 +25,12 @@ def written(house):
     return "\n".join([f"rooms {rooms}"] + [f"door {a} {b}" for a, b in doors])
 
 
+def through(house, door, way):
+    """The room that a going leaves, and the one that it comes to."""
+    a, b = house[1][door]
+    return (a, b) if way == 0 else (b, a)
+
+
 def met(house, counts):
     """For each room, what its doors were counted together."""
     rooms, doors = house

@@ -149,3 +149,38 @@ def _push(house, left_at, spare, way):
         left_at[door][1 - side] += much
     spare[first] -= much
     spare[last] += much
+
+
+def gone(house, begin, row):
+    """The numbers at first and behind each going, up to the one at which a room that is empty would be left."""
+    numbers = [list(begin)]
+    for door, way in row:
+        behind = list(numbers[-1])
+        out, into = house[1][door][way], house[1][door][1 - way]
+        if behind[out] == 0:
+            break
+        behind[out] -= 1
+        behind[into] += 1
+        numbers.append(behind)
+    return numbers
+
+
+def passed_plainly(house, row):
+    return [sum(1 for door, _ in row if door == asked) for asked in range(len(house[1]))]
+
+
+def split_ends(house, begin, counts):
+    """Every end, rising, that some split of the counts makes, none of its numbers below 0 and no part with nobody."""
+    if empty_parts(house, begin, counts):
+        return []
+    sums = {tuple(begin)}
+    for (a, b), count in zip(house[1], counts):
+        sums = {_shifted(numbers, a, b, more) for numbers in sums for more in range(-count, count + 1, 2)}
+    return sorted(list(numbers) for numbers in sums if min(numbers) >= 0)
+
+
+def _shifted(numbers, a, b, more):
+    moved = list(numbers)
+    moved[a] -= more
+    moved[b] += more
+    return tuple(moved)

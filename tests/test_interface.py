@@ -4,7 +4,7 @@ import importlib
 import inspect
 import unittest
 
-from bothdoors import counted, houses
+from bothdoors import counted, ends, goings, houses, tapes
 from bothdoors.errors import NoText
 
 ARGUMENTS = {
@@ -21,6 +21,21 @@ ARGUMENTS = {
         "shut": ["house", "begin", "counts"],
         "greatest": ["house", "begin", "counts", "lot"],
         "least": ["house", "begin", "counts", "lot"],
+    },
+    "goings": {
+        "goings": ["house", "begin", "counts", "end"],
+        "goings_fault": ["house", "begin", "counts", "end", "row"],
+        "fewest": ["house", "counts"],
+    },
+    "ends": {
+        "ends": ["house", "begin", "counts"],
+        "led": ["house", "begin", "counts", "end", "other"],
+    },
+    "tapes": {
+        "most_out": ["house", "begin", "tape", "room", "moment"],
+        "least_out": ["house", "begin", "tape", "room", "moment"],
+        "turned": ["tape"],
+        "tape_of": ["books"],
     },
 }
 
@@ -61,6 +76,27 @@ class SomewhatBeyond(unittest.TestCase):
         self.assertEqual(counted.greatest(house, begin, counts, [0])[0], 13 * 10 ** 23)
         self.assertEqual(counted.least(house, begin, counts, [0])[0], 7 * 10 ** 23)
         self.assertIs(counted.holds(house, begin, counts, begin, ("lot", [11])), False)
+
+    def test_more_goings_and_ends(self):
+        house = (12, [(room, room + 1) for room in range(11)])
+        begin, counts, end = [1] + [0] * 11, [41] * 11, [0] * 11 + [1]
+        row = goings.goings(house, begin, counts, end)
+        self.assertEqual(len(row), 451)
+        self.assertIsNone(goings.goings_fault(house, begin, counts, end, row))
+        self.assertEqual(goings.goings_fault(house, begin, counts, begin, row * 2), ("empty", 451))
+        self.assertEqual(sum(goings.fewest(house, counts)), 1)
+        self.assertEqual(ends.ends(house, begin, counts), [end])
+        self.assertEqual(ends.ends((2, [(0, 1)]), [5000, 0], [4800])[::2400], [[200, 4800], [5000, 0]])
+        self.assertEqual(len(ends.led((2, [(0, 1)]), [900, 0], [600], [300, 600], [900, 0])), 301)
+
+    def test_longer_tapes_of_more_books(self):
+        house, row, looks = (12, [(11, 0)]), [(0, 0), (0, 1)] * 200, [(at, 11, 0, 9) for at in range(401)]
+        self.assertEqual(tapes.most_out(house, [0] * 12, (row, looks), 11, 400), 200)
+        self.assertEqual(tapes.least_out(house, [0] * 12, (row, looks), 11, 400), 196)
+        self.assertEqual(tapes.turned(tapes.turned((row, looks))), (row, looks))
+        books = [[(2 * at, *bead)] for at, bead in enumerate(row)] + [[(2 * at - 1, *look[1:]) for at, look in
+                                                                       enumerate(looks)]]
+        self.assertEqual(tapes.tape_of(books[::-1]), (row, looks))
 
     def test_a_house_of_eleven_rooms_is_written_but_not_read(self):
         text = houses.written((11, [(10, 0)]))
