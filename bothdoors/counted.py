@@ -28,6 +28,8 @@ def holds(house, begin, counts, end, paper):
     kind = paper[0]
     if kind == "folk":
         return sum(begin) != sum(end)
+    if kind not in ("below", "odd", "nobody", "lot"):
+        return False
     named = [paper[1]] if kind in ("below", "odd") else paper[1]
     if not all([0 <= room < house[0] for room in named]):
         return False

@@ -2,7 +2,7 @@
 
 from bothdoors.counted import paper_of
 from bothdoors.errors import NoEnd
-from bothdoors.houses import parts, through
+from bothdoors.houses import go, parts, through
 from bothdoors.lots import lot_sums
 
 
@@ -16,7 +16,7 @@ def goings(house, begin, counts, end):
     for _ in range(sum(counts)):
         door, way = _next_going(house, numbers, left)
         left[door][way] -= 1
-        _go(house, numbers, door, way)
+        go(house, numbers, door, way)
         row.append((door, way))
     return row
 
@@ -32,7 +32,7 @@ def goings_fault(house, begin, counts, end, row):
     for at, (door, way) in enumerate(row):
         if numbers[through(house, door, way)[0]] < 1:
             return ("empty", at)
-        _go(house, numbers, door, way)
+        go(house, numbers, door, way)
         passed[door] += 1
     for door, count in enumerate(counts):
         if passed[door] != count:
@@ -72,13 +72,6 @@ def _walked(doors, start):
         room = sum(here[0]) - room
 
 
-def _go(house, numbers, door, way):
-    """Moves one of the folk in these numbers through the door."""
-    out, into = through(house, door, way)
-    numbers[out] -= 1
-    numbers[into] += 1
-
-
 def _split(house, begin, counts, end):
     """For each door, how often it is passed each way, so that all together make the end of the beginning."""
     left = list(counts)
@@ -114,7 +107,7 @@ def _goes_well(house, numbers, left, door, way):
     if numbers[through(house, door, way)[0]] == 0:
         return False
     behind = list(numbers)
-    _go(house, behind, door, way)
+    go(house, behind, door, way)
     counts = [there + back for there, back in left]
     counts[door] -= 1
     return all([len(part) == 1 or any([behind[room] for room in part]) for part in parts(house, counts)])

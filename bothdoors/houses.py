@@ -1,11 +1,10 @@
 """Houses: rooms joined by doors, how they are written, and plain sums of how often doors were passed."""
 
 from bothdoors.errors import NoText
+from bothdoors.figures import whole
 
 MOST_ROOMS = 10
 MOST_DOORS = 24
-MOST_FIGURES = 9
-FIGURES = "0123456789"
 
 
 def read(text):
@@ -29,6 +28,13 @@ def through(house, door, way):
     """The room that a going leaves, and the one that it comes to."""
     a, b = house[1][door]
     return (a, b) if way == 0 else (b, a)
+
+
+def go(house, numbers, door, way):
+    """Moves one of the folk in these numbers through the door."""
+    out, into = through(house, door, way)
+    numbers[out] -= 1
+    numbers[into] += 1
 
 
 def met(house, counts):
@@ -73,14 +79,7 @@ def _numbers(row, word, many):
     words = row.split(" ")
     if words[0] != word or len(words) != many + 1:
         raise NoText(f"this row is not '{word}' and its numbers, {many} of them")
-    return [_number(figures) for figures in words[1:]]
-
-
-def _number(figures):
-    """The number that is written so."""
-    # Signs are looked up here, as Python's own reading lets by more: blanks, `_`, a `+`, figures of other scripts.
-    if not 1 <= len(figures) <= MOST_FIGURES or not all([sign in FIGURES for sign in figures]):
-        raise NoText(f"a number has 1 to {MOST_FIGURES} figures and no other signs")
-    if len(figures) > 1 and figures[0] == "0":
-        raise NoText("a number has no 0 ahead")
-    return int(figures)
+    numbers = [whole(figures) for figures in words[1:]]
+    if None in numbers:
+        raise NoText("a number has one to nine figures, none of them a 0 ahead, and no other signs")
+    return numbers

@@ -4,7 +4,7 @@ import importlib
 import inspect
 import unittest
 
-from bothdoors import counted, ends, goings, houses, tapes
+from bothdoors import counted, ends, goings, hall, houses, moments, sessions, stories, tapes
 from bothdoors.errors import NoText
 
 ARGUMENTS = {
@@ -37,6 +37,37 @@ ARGUMENTS = {
         "turned": ["tape"],
         "tape_of": ["books"],
     },
+    "stories": {
+        "story": ["house", "begin", "tape"],
+        "story_right": ["house", "begin", "tape", "ways"],
+        "paper_right": ["house", "begin", "tape", "paper"],
+    },
+    "moments": {
+        "room_at": ["house", "begin", "tape", "moment", "room"],
+        "lot_now": ["house", "begin", "tape", "lot"],
+        "sure": ["house", "begin", "tape"],
+    },
+    "sessions": {
+        "session": ["house", "begin", "rows"],
+    },
+}
+METHODS = {
+    "__init__": ["house", "begin"],
+    "bead": ["door", "way"],
+    "look": ["room", "least", "most"],
+    "seen": ["bead", "way"],
+    "strike": ["look"],
+    "mark": [],
+    "undo": ["mark"],
+    "house": [],
+    "begin": [],
+    "tape": [],
+    "story": [],
+    "room": ["room", "moment"],
+    "lot": ["rooms"],
+    "sure": [],
+    "end": ["numbers"],
+    "news": [],
 }
 
 
@@ -60,6 +91,18 @@ class Interface(unittest.TestCase):
                     for one in had:
                         self.assertIs(one.kind, inspect.Parameter.POSITIONAL_OR_KEYWORD)
                         self.assertIs(one.default, inspect.Parameter.empty)
+
+    def test_the_hall_is_defined_in_its_file_with_its_methods_in_itself(self):
+        self.assertEqual(hall.Hall.__module__, "bothdoors.hall")
+        for name, arguments in METHODS.items():
+            with self.subTest(name):
+                self.assertTrue(inspect.isfunction(vars(hall.Hall)[name]))
+                _, *had = inspect.signature(vars(hall.Hall)[name]).parameters.values()
+                self.assertEqual([one.name for one in had], arguments)
+                for one in had:
+                    by_name = name == "bead" and one.name == "way"
+                    self.assertIs(one.kind, one.KEYWORD_ONLY if by_name else one.POSITIONAL_OR_KEYWORD)
+                    self.assertEqual(one.default, -1 if by_name else one.empty)
 
 
 class SomewhatBeyond(unittest.TestCase):
@@ -97,6 +140,23 @@ class SomewhatBeyond(unittest.TestCase):
         books = [[(2 * at, *bead)] for at, bead in enumerate(row)] + [[(2 * at - 1, *look[1:]) for at, look in
                                                                        enumerate(looks)]]
         self.assertEqual(tapes.tape_of(books[::-1]), (row, looks))
+
+    def test_longer_stories_and_halls(self):
+        house, begin = (12, [(room, room + 1) for room in range(11)] * 3), [10 ** 24] * 12
+        row, looks = [(at * 7 % 33, -1) for at in range(500)], [(at, at % 12, 0, 10 ** 25) for at in range(500)]
+        kind, ways = stories.story(house, begin, (row, looks))
+        self.assertEqual(kind, "story")
+        self.assertIs(stories.story_right(house, begin, (row, looks), ways), True)
+        self.assertIs(stories.paper_right(house, begin, (row, looks), ("many", [(11, 1, 500)])), False)
+        self.assertEqual(moments.lot_now(house, begin, (row, looks), list(range(12))), (12 * 10 ** 24,) * 2)
+        self.assertEqual(moments.room_at(house, begin, (row, looks), 1, 1), (10 ** 24 - 1, 10 ** 24 + 1))
+        self.assertEqual(moments.sure(house, begin, (row, looks)), [-1] * 500)
+        beyond = hall.Hall(house, begin)
+        self.assertEqual([beyond.bead(door) for door, _ in row[:250]], list(range(250)))
+        self.assertEqual([beyond.look(1, 0, 10 ** 25) for _ in range(80)], list(range(80)))
+        self.assertEqual([beyond.mark() for _ in range(450)], list(range(450)))
+        told = sessions.session(house, begin, "bead 32\n" * 300 + "lot 0")
+        self.assertEqual(told, "ok\n" * 300 + f"{10 ** 24} {10 ** 24}")
 
     def test_a_house_of_eleven_rooms_is_written_but_not_read(self):
         text = houses.written((11, [(10, 0)]))

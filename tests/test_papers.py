@@ -269,6 +269,12 @@ class Holds(Papers):
                          ("lot", [1]), ("lot", [0, 1]))
         self.holding((1, []), [0], [], [-HUGE], ("below", 0), ("odd", 0), ("lot", [0]), ("folk",))
 
+    def test_papers_of_other_kinds(self):
+        # The lot lost and gained more than leaves it; but such papers say nothing of an end.
+        self.holding((2, [(0, 1)]), [0, 9], [1], [9, 0], ("lot", [0]), ("lot", [1]))
+        self.not_holding((2, [(0, 1)]), [0, 9], [1], [9, 0], ("odds", [0]), ("odds", [1]), ("look", 0, 0),
+                         ("many", [(0, 1, 1)]), ("few", []), ("", [0]))
+
     def test_lots_of_no_rooms(self):
         for end in ([4, 4], [0, 0], [1, 0], [-3, -3]):
             self.not_holding((2, [(0, 1)]), [1, 0], [1], end, ("lot", []), ("nobody", []))

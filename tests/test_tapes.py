@@ -1,14 +1,12 @@
 """Points 14, 17 and 18, and 13 as far as these speak of stories: outs of a room, turned tapes, wardens' books."""
 
 import itertools
-import math
 import random
-from fractions import Fraction
 
 from bothdoors.tapes import least_out, most_out, tape_of, turned
 
 from tests.asking import Asking
-from tests.plain_tapes import all_stories, chance_tape, outs
+from tests.plain_tapes import all_stories, chance_tape, outs, outs_plainly
 from tests.small import HUGE, chance_doors
 
 LINE = (3, [(0, 1), (2, 1)])
@@ -107,18 +105,7 @@ class WithLooks(Outs):
             house, begin, tape = chance_tape(chance, chance.randint(2, 4), 12, 9, 6)
             for room in range(house[0]):
                 for moment in range(len(tape[0]) + 1):
-                    self.ask(*self.plainly(house, begin, tape, room, moment), begin, tape, room, moment, house)
-
-    def plainly(self, house, begin, tape, room, moment):
-        if moment == 0:
-            return 0, 0
-        both = begin[room] + sum(1 for at in range(moment) if room in house[1][tape[0][at][0]])
-        low, outs_at_least = 0, [0]
-        for at, seen, least, most in tape[1]:
-            if (at, seen) == (moment, room):
-                low = max(low, least)
-                outs_at_least.append(math.ceil(Fraction(both - most, 2)))
-        return math.floor(Fraction(both - low, 2)), max(outs_at_least)
+                    self.ask(*outs_plainly(house, begin, tape, room, moment), begin, tape, room, moment, house)
 
     def test_so_many_went_out_in_each_story(self):
         chance = random.Random(42)
@@ -144,7 +131,7 @@ class WithLooks(Outs):
         begin = [chance.randint(0, HUGE) if room % 2 else room for room in range(10)]
         for room in range(10):
             for moment in (0, 1, 100, 199, 200):
-                most, least = self.plainly(house, begin, (row, looks), room, moment)
+                most, least = outs_plainly(house, begin, (row, looks), room, moment)
                 self.ask(most, least, begin, (row, looks), room, moment, house)
 
     def test_what_is_handed_in_is_taken_as_it_is_now(self):
